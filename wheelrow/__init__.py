@@ -1,0 +1,1 @@
+"""Wheelrow: numbers told by what is left of them by many others, and the two that clash."""
