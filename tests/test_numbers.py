@@ -2,13 +2,8 @@ import copy
 import math
 import unittest
 
+from tests.helpers import MILLION, NO_WHOLE_NUMBERS, OTHER_KINDS
 from wheelrow import numbers
-
-MILLION = 1000000
-
-# Things of other kinds, none of them a whole number, a list or a tuple.
-OTHER_KINDS = (None, "", "1", "[]", 1.0, 0.0, float("nan"), 1j, b"1", {}, {1: 2}, set(), object(), len, int, range(2))
-NO_WHOLE_NUMBERS = OTHER_KINDS + (True, False, [], [1], (), (1,), (0, 1))
 
 
 class CheckedCase(unittest.TestCase):
@@ -75,6 +70,23 @@ class RoundTest(CheckedCase):
     def test_other_kinds(self):
         for value in NO_WHOLE_NUMBERS:
             self.refused(numbers.is_round, value)
+
+
+class RoundsTest(CheckedCase):
+    def test_lists_of_any_count(self):
+        for value in ([], [1], [MILLION], [3, 3, 1, 999999], list(range(1, 3000))):
+            self.taken(numbers.are_rounds, value)
+
+    def test_one_wrong_round_at_any_place(self):
+        for wrong in (0, -1, MILLION + 1) + NO_WHOLE_NUMBERS:
+            self.refused(numbers.are_rounds, [wrong])
+            self.refused(numbers.are_rounds, [wrong, 1, 2])
+            self.refused(numbers.are_rounds, [1, wrong, 2])
+            self.refused(numbers.are_rounds, [1, 2, wrong])
+
+    def test_what_is_no_list(self):
+        for value in OTHER_KINDS + (True, False, 0, 5, (), (1, 2), {1, 2}):
+            self.refused(numbers.are_rounds, value)
 
 
 class RestTest(CheckedCase):
@@ -183,6 +195,28 @@ class CommonTest(unittest.TestCase):
             for other in range(-30, 31):
                 self.assertEqual(numbers.common_part([one, other]), math.gcd(one, other), (one, other))
                 self.assertEqual(numbers.common_part_of_two(one, other), math.gcd(one, other), (one, other))
+
+    def test_part_with_times_of_all_small_pairs(self):
+        for one in range(-30, 31):
+            for other in range(-30, 31):
+                part, often, other_often = numbers.part_with_times(one, other)
+                self.assertEqual(part, math.gcd(one, other), (one, other))
+                self.assertEqual(often * one + other_often * other, part, (one, other))
+
+    def test_part_with_times_stays_small(self):
+        for one in range(1, 60):
+            for other in range(1, 60):
+                part, often, other_often = numbers.part_with_times(one, other)
+                self.assertLessEqual(abs(often), other // part, (one, other))
+                self.assertLessEqual(abs(other_often), one // part, (one, other))
+
+    def test_turned_back(self):
+        for turn in range(1, 40):
+            for number in range(-50, 51):
+                if math.gcd(number, turn) == 1:
+                    rest = numbers.turned_back(number, turn)
+                    self.assertIn(rest, range(turn))
+                    self.assertEqual(rest * number % turn, 1 % turn, (number, turn))
 
     def test_common_turn(self):
         self.assertEqual(numbers.common_turn([]), 1)

@@ -22,6 +22,10 @@ def is_round(value):
     return is_whole(value) and 1 <= value <= GREATEST_ROUND
 
 
+def are_rounds(value):
+    return isinstance(value, list) and all([is_round(turn) for turn in value])
+
+
 def is_rest(value, turn):
     return is_round(turn) and is_whole(value) and 0 <= value < turn
 
@@ -50,6 +54,32 @@ def common_part_of_two(one, other):
         part = left
         left = following
     return part
+
+
+# A triple: the common part, and how often the one and the other go to make it.
+def part_with_times(one, other):
+    part = abs(one)
+    often = 1
+    left = abs(other)
+    left_often = 0
+    while left != 0:
+        whole = part // left
+        following = part - whole * left
+        following_often = often - whole * left_often
+        part = left
+        often = left_often
+        left = following
+        left_often = following_often
+    if one < 0:
+        often = -often
+    # What the one leaves short of the part is due from the other; nothing is due from a nought.
+    other_often = 0 if other == 0 else (part - often * one) // other
+    return (part, often, other_often)
+
+
+# Asked only of a number that has no common part above 1 with the round.
+def turned_back(number, turn):
+    return part_with_times(number, turn)[1] % turn
 
 
 # Every number goes into 0, so a start at 0 takes nothing from the part, and stays where nothing else comes.
